@@ -1,0 +1,1 @@
+"""Floorways: carriers on a floor of cells, their ways booked in time."""

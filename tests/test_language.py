@@ -1,4 +1,7 @@
-"""Holds the package to those rules of LANGUAGE.md that can be seen in the code."""
+"""Holds the package to a part of LANGUAGE.md's rules.
+
+Not looked at, and so to be read for by eye: L9, L11, L13, L21 to L24, and most of L15, L18, L19 and L28.
+"""
 
 import ast
 import builtins

@@ -5,6 +5,8 @@ from floorways.words import is_among
 
 WALL = "#"
 CHARGER = "+"
+ROUGH = "~"
+LANE = "|"
 SIGNS = ".#+~|"
 MOST_ROWS = 10
 MOST_SIGNS = 10

@@ -1,6 +1,6 @@
 """Holds the package to a part of LANGUAGE.md's rules.
 
-Not looked at, and so to be read for by eye: L9, L11, L13, L21 to L24, and most of L15, L18, L19 and L28.
+Not looked at, and so to be read for by eye: L9, L11, L13, L21, L22, L24, and most of L15, L18, L19, L23 and L28.
 """
 
 import ast
@@ -30,6 +30,9 @@ FILE_NAME = re.compile(r"([a-z][a-z0-9_]*|__init__|__main__)\.py")
 PLAIN_NAME = re.compile(r"[A-Za-z][A-Za-z0-9_]*")
 OWN_KINDS = (str, int, list, dict, set, bytes, tuple)
 OWN_ATTRIBUTES = set().union(*[dir(kind) for kind in OWN_KINDS])
+WALKED = set("zip enumerate reversed range".split())
+WALKED_METHODS = set("items keys values".split())
+WALKERS = set("list tuple dict sorted sum any all enumerate zip".split())
 
 STATEMENTS = (
     ast.Assign, ast.AugAssign, ast.If, ast.While, ast.For, ast.Return, ast.Break, ast.Continue, ast.Pass, ast.Raise,
@@ -44,7 +47,7 @@ def breaches(name, source):
     """Pairs of a rule and a line, for one file's source."""
     found = text_breaches(name, source)
     tree = ast.parse(source)
-    found += top_breaches(tree)
+    found += top_breaches(tree) + local_breaches(tree) + walk_breaches(tree)
     for node in ast.walk(tree):
         for check in (statement_breach, expression_breach, def_breach, name_breach):
             rule = check(node)
@@ -92,6 +95,44 @@ def top_breaches(tree):
         if isinstance(node, ast.arg) and node.arg in bound:
             found.append(("L15", node.lineno))
     return found
+
+
+def local_breaches(tree):
+    """Locals that are called like a class or an import of the file."""
+    taken = {node.name for node in tree.body if isinstance(node, ast.ClassDef)}
+    for node in tree.body:
+        if isinstance(node, ast.ImportFrom):
+            taken |= {alias.asname or alias.name for alias in node.names}
+    stored = [node for node in ast.walk(tree) if isinstance(node, ast.Name) and isinstance(node.ctx, ast.Store)]
+    return [("L15", node.lineno) for node in stored if node.id in taken]
+
+
+def walk_breaches(tree):
+    """Calls whose answer is to be walked on the spot, and isn't."""
+    on_the_spot = [spot for node in ast.walk(tree) for spot in walked_spots(node)]
+    return [
+        ("L23", node.lineno) for node in ast.walk(tree)
+        if is_walked(node) and not any(node is spot for spot in on_the_spot)
+    ]
+
+
+def is_walked(node):
+    if not isinstance(node, ast.Call):
+        return False
+    if isinstance(node.func, ast.Attribute):
+        return node.func.attr in WALKED_METHODS
+    return isinstance(node.func, ast.Name) and node.func.id in WALKED
+
+
+def walked_spots(node):
+    if isinstance(node, (ast.For, ast.comprehension)):
+        return [node.iter]
+    if isinstance(node, ast.Call) and isinstance(node.func, ast.Name):
+        alone = node.func.id in ("min", "max") and len(node.args) == 1
+        return node.args[:1] if alone or node.func.id in WALKERS else []
+    if isinstance(node, ast.Call) and isinstance(node.func, ast.Attribute) and node.func.attr == "join":
+        return node.args if isinstance(node.func.value, ast.Constant) else []
+    return []
 
 
 def is_plain(value, depth=0):
@@ -292,6 +333,10 @@ class TestTheCheckItself(unittest.TestCase):
             ("def f(a):\n    assert a\n", "L6"), ("def f(a):\n    return a / 2\n", "L7"),
             ("def f(a):\n    return {b for b in a}\n", "L7"), ("def f(a):\n    return getattr(a, 'b')\n", "L8"),
             ("def f(a):\n" + "    a = 1\n" * 40, "L10"), ("def _f(a):\n    return a\n", "L12"),
+            ("from floorways.b import g\n\n\ndef f(a):\n    for g in a:\n        pass\n", "L15"),
+            ("def f(a):\n    b = enumerate(a)\n    return list(b)\n", "L23"),
+            ("def f(a):\n    for b in reversed(range(a)):\n        pass\n", "L23"),
+            ("def f(a):\n    return a.items()\n", "L23"),
             ("# caf\u00e9\n", "L14"), ("a = 1\na = 2\n", "L15"), ("def f(id):\n    return id\n", "L15"),
             ("# its type\n", "L17"), ("def f(a, b):\n    return a is b\n", "L20"),
             ("def f(n):\n    return 2 ** n\n", "L27"), ("a = '%d'\n", "L27"),

@@ -1,7 +1,7 @@
 """A book: the ways of carriers, by their numbers, of which no two meet."""
 
 from floorways.errors import Meets, NoCarrier
-from floorways.ways import first_meeting, last_time, place_at
+from floorways.ways import first_meeting, last_time, place_at, stays_till
 from floorways.words import is_whole
 
 
@@ -38,11 +38,16 @@ class Book:
         return None
 
     def is_open(self, number, cell, other, time):
+        return is_clear(self.comings(number, time), cell, other)
+
+    # From each place at which one of all but this number is a tick later to where it is at the time.
+    def comings(self, number, time):
+        places = {}
         for way in self.ways_beside(number):
-            after = place_at(way, time + 1)
-            if after == other or (after == cell and place_at(way, time) == other):
-                return False
-        return True
+            later = place_at(way, time + 1)
+            if later is not None:
+                places[later] = place_at(way, time)
+        return places
 
     def quiet(self, number):
         return max([last_time(way) for way in self.ways_beside(number)], default=0)
@@ -55,6 +60,10 @@ class Book:
             free = max(free, left_from(way, cell))
         return free
 
+    # The last time up to which all but this number stay where they are at a time, at most the end.
+    def still_till(self, number, time, end):
+        return min([stays_till(way, time, end) for way in self.ways_beside(number)], default=end)
+
     def ways_beside(self, number):
         return [self.ways[other] for other in self.ways if other != number]
 
@@ -62,6 +71,11 @@ class Book:
         # Python finds a number in a dict by True or False, too.
         if not is_whole(number) or number not in self.ways:
             raise NoCarrier("the book has no way of that number")
+
+
+# Whether one may go from a cell to another, or the same, one, where the others come as told.
+def is_clear(comings, cell, other):
+    return other not in comings and comings.get(cell) != other
 
 
 # The least time from which on a way that ends elsewhere is never at a place again.

@@ -22,6 +22,17 @@ def way_later(way, time):
     return (time, way[1][index_at(way, time):])
 
 
+# The last time up to which a way stays where it is at a time, at most the end.
+def stays_till(way, time, end):
+    if time < way[0]:
+        return min(way[0] - 1, end)
+    place = place_at(way, time)
+    for later in range(time + 1, min(last_time(way), end) + 1):
+        if place_at(way, later) != place:
+            return later - 1
+    return end
+
+
 def meeting_word(one, other, time):
     place = place_at(one, time)
     far = place_at(other, time)

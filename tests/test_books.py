@@ -3,28 +3,10 @@ import unittest
 
 from floorways.books import Book
 from floorways.errors import FloorError, Meets, NoCarrier
+from plain import GREAT, book_of, held, plain_place
 
-GREAT = 10 ** 5000
 WAYS = {4: (0, (1, 2, 3)), 0: (2, (7, 8, 8, 9)), 9: (0, (5,)), 2: (1, (6, 1, 0, 4))}
 NO_NUMBERS = (True, False, None, "", "4", 4.0, [], [4], (), (4,), {}, {4: 4}, object())
-
-
-def book_of(ways):
-    book = Book()
-    for number, way in ways.items():
-        book.put(number, way)
-    return book
-
-
-def held(book):
-    return {number: book.way(number) for number in book.numbers()}
-
-
-def plain_place(way, time):
-    begin, cells = way
-    if time < begin:
-        return None
-    return (cells + cells[-1:] * time)[time - begin]
 
 
 def plain_open(ways, number, cell, other, time):
@@ -403,6 +385,29 @@ class TestFreeFrom(unittest.TestCase):
         self.assertTrue(book.free_from(0, GREAT) == GREAT + 1)
         self.assertIsNone(book.free_from(0, 1))
         self.assertEqual(book.free_from(GREAT, 1), 0)
+
+
+class TestWhatOthersDo(unittest.TestCase):
+    def test_comings(self):
+        book = book_of({0: (0, (1, 2, 3)), 5: (2, (8,)), 7: (9, (4,))})
+        self.assertEqual(book.comings(9, 0), {2: 1})
+        self.assertEqual(book.comings(9, 1), {3: 2, 8: None})
+        self.assertEqual(book.comings(0, 1), {8: None})
+        self.assertEqual(book.comings(5, 5), {3: 3})
+
+    def test_still_till(self):
+        book = book_of(WAYS)
+        for number in (0, 1, 2, 4, 9):
+            for time in range(8):
+                for end in range(time, 9):
+                    still = time
+                    while still < end and self.places(number, still + 1) == self.places(number, time):
+                        still += 1
+                    self.assertEqual(book.still_till(number, time, end), still)
+        self.assertEqual(Book().still_till(0, 3, 50), 50)
+
+    def places(self, number, time):
+        return [plain_place(way, time) for other, way in WAYS.items() if other != number]
 
 
 class TestNothingIsChanged(unittest.TestCase):

@@ -4,7 +4,7 @@ import unittest
 from floorways.carriers import Carrier, Cart, Crawler, Runner
 from floorways.errors import BadWay, FloorError
 from floorways.floors import Floor
-from floorways.ways import first_meeting, last_time, place_at, walked, way_later
+from floorways.ways import first_meeting, last_time, place_at, stays_till, walked, way_later
 
 CLASSES = (Carrier, Cart, Crawler, Runner)
 GREAT = 10 ** 5000
@@ -124,6 +124,22 @@ class TestWayLater(unittest.TestCase):
                 self.assertEqual(len(later[1]), max(1, way[0] + len(way[1]) - time))
                 for then in range(12):
                     self.assertEqual(place_at(later, then), plain_place(way, then) if then >= time else None)
+
+
+class TestStaysTill(unittest.TestCase):
+    def test_against_the_words(self):
+        for way in small_ways((0, 2), 2, 4):
+            for time in range(8):
+                for end in range(time, 9):
+                    stayed = time
+                    while stayed < end and plain_place(way, stayed + 1) == plain_place(way, time):
+                        stayed += 1
+                    self.assertEqual(stays_till(way, time, end), stayed)
+
+    def test_many_figures(self):
+        self.assertTrue(stays_till((GREAT, (1, 2)), 0, 2 * GREAT) == GREAT - 1)
+        self.assertTrue(stays_till((GREAT, (1, 1, 2)), GREAT, 2 * GREAT) == GREAT + 1)
+        self.assertTrue(stays_till((0, (1, 2)), 1, GREAT) == GREAT)
 
 
 class TestFirstMeeting(unittest.TestCase):

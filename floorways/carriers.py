@@ -88,3 +88,8 @@ def carrier_of(kind, full=20):
     if kind == "crawler":
         return Crawler(full)
     return Runner(full)
+
+
+# Of anything, whether it is a cell on which the carrier may stand.
+def stands_at(floor, carrier, cell):
+    return floor.has(cell) and carrier.may_stand(floor.sign(cell))

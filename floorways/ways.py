@@ -1,5 +1,6 @@
 """Ways: where a carrier is at each time, when two of them meet, and what charge a way leaves."""
 
+from floorways.carriers import stands_at
 from floorways.errors import BadWay
 
 
@@ -57,7 +58,7 @@ def first_meeting(one, other):
 
 def walked(floor, carrier, way, charge):
     cells = way[1]
-    if not floor.has(cells[0]) or not carrier.may_stand(floor.sign(cells[0])):
+    if not stands_at(floor, carrier, cells[0]):
         raise BadWay("the first place is no cell on which the carrier may stand")
     charges = [charge]
     for index in range(1, len(cells)):

@@ -6,13 +6,17 @@ import unittest
 
 from floorways.books import Book
 from floorways.carriers import Carrier, Cart, Crawler, Runner
-from floorways.errors import Meets
+from floorways.errors import FloorError, Meets
+from floorways.fleets import Fleet
 from floorways.floors import Floor
 from floorways.layers import first_layer, next_layer
 from floorways.seeks import Found, Shut
 
 CLASSES = (Carrier, Cart, Crawler, Runner)
+KINDS = ("cart", "crawler", "runner")
+GAINS = {"cart": 2, "crawler": 1, "runner": 3}
 GREAT = 10 ** 5000
+NO_NUMBERS = (True, False, None, "", "0", 0.0, 1.0, [], [0], (), (0,), {}, {0: 0}, {0}, b"0", object(), int)
 FLOORS = (
     ["...", ".+.", "..."],
     ["+~.", "|~|", ".~+"],
@@ -53,6 +57,53 @@ def is_left_alone(ways, number, cell, time):
     until = max(time, plain_quiet(ways, number))
     others = [way for other, way in ways.items() if other != number]
     return all(plain_place(way, later) != cell for way in others for later in range(time, until + 1))
+
+
+def plain_tick(floor, kind, full, charge, cell, other):
+    """The charge behind a tick from a cell to another or the same one; None where one of that kind can't do it."""
+    signs = (floor.sign(cell), floor.sign(other))
+    if not all(sign in (".+|~" if kind == "crawler" else ".+|") for sign in signs):
+        return None
+    if cell == other:
+        return min(full, charge + GAINS[kind]) if signs[0] == "+" else charge
+    upright = kind == "runner" and floor.row(cell) != floor.row(other)
+    if other not in floor.beside(cell) or (upright and "|" not in signs):
+        return None
+    cost = 2 if upright else 3 if signs[1] == "~" else 1
+    return charge - cost if cost <= charge else None
+
+
+def plain_need(floor, kind, cell):
+    """The least charge with which one of that kind comes from a cell to a charger; None where it never does."""
+    ahead = {cell: 400}
+    for step in floor.cells():
+        for place, charge in list(ahead.items()):
+            for other in floor.beside(place):
+                left = plain_tick(floor, kind, 400, charge, place, other)
+                if left is not None and left > ahead.get(other, -1):
+                    ahead[other] = left
+    return min([400 - ahead[charger] for charger in floor.chargers() if charger in ahead], default=None)
+
+
+def plain_sought(floor, carrier, ways, number, begin, start, charge, stops, least):
+    goal = (len(stops), stops[-1])
+
+    def there(time, layer):
+        if layer.get(goal, -1) >= least and is_left_alone(ways, number, stops[-1], time):
+            return goal
+        return None
+
+    return plain_answer(floor, carrier, ways, number, begin, start, charge, stops, there)
+
+
+def plain_rested(floor, carrier, ways, number, begin, start, charge):
+    def resting(time, layer):
+        for cell in floor.cells():
+            if (0, cell) in layer and is_left_alone(ways, number, cell, time):
+                return (0, cell)
+        return None
+
+    return plain_answer(floor, carrier, ways, number, begin, start, charge, [], resting)
 
 
 def plain_answer(floor, carrier, ways, number, begin, start, charge, stops, there):
@@ -120,7 +171,33 @@ def some_cases(seed, many):
             yield (floor, carrier, ways, again % 3, begin, chance.choice(standing), charge, stops)
 
 
+def fleet_of(lines, *rows):
+    """A fleet with a carrier for each row: a kind, a full charge, a cell and a charge."""
+    fleet = Fleet(Floor(lines))
+    for row in rows:
+        fleet.add(*row)
+    return fleet
+
+
+def picture(fleet):
+    """All that a fleet tells of itself."""
+    rows = []
+    for number in fleet.numbers():
+        carrier = fleet.carrier(number)
+        rows.append((
+            number, carrier.kind(), carrier.full, fleet.place(number), fleet.charge(number), fleet.way(number),
+            fleet.is_idle(number)))
+    return (fleet.time(), rows, held(fleet.book()))
+
+
 class Telling(unittest.TestCase):
+    def refused(self, error, call, *given):
+        """Tells the refusal, which is of just this class."""
+        with self.assertRaises(FloorError) as caught:
+            call(*given)
+        self.assertIs(type(caught.exception), error)
+        return caught.exception
+
     def found(self, told, path, left):
         self.assertIs(type(told), Found)
         self.assertEqual((told.path, told.left), (path, left))

@@ -98,13 +98,14 @@ def top_breaches(tree):
 
 
 def local_breaches(tree):
-    """Locals that are called like a class or an import of the file."""
+    """Locals and parameters that are called like a class or an import of the file."""
     taken = {node.name for node in tree.body if isinstance(node, ast.ClassDef)}
     for node in tree.body:
         if isinstance(node, ast.ImportFrom):
             taken |= {alias.asname or alias.name for alias in node.names}
     stored = [node for node in ast.walk(tree) if isinstance(node, ast.Name) and isinstance(node.ctx, ast.Store)]
-    return [("L15", node.lineno) for node in stored if node.id in taken]
+    found = [("L15", node.lineno) for node in stored if node.id in taken]
+    return found + [("L15", node.lineno) for node in ast.walk(tree) if isinstance(node, ast.arg) and node.arg in taken]
 
 
 def walk_breaches(tree):
@@ -334,6 +335,7 @@ class TestTheCheckItself(unittest.TestCase):
             ("def f(a):\n    return {b for b in a}\n", "L7"), ("def f(a):\n    return getattr(a, 'b')\n", "L8"),
             ("def f(a):\n" + "    a = 1\n" * 40, "L10"), ("def _f(a):\n    return a\n", "L12"),
             ("from floorways.b import g\n\n\ndef f(a):\n    for g in a:\n        pass\n", "L15"),
+            ("from floorways.b import g\n\n\ndef f(g):\n    return g\n", "L15"),
             ("def f(a):\n    b = enumerate(a)\n    return list(b)\n", "L23"),
             ("def f(a):\n    for b in reversed(range(a)):\n        pass\n", "L23"),
             ("def f(a):\n    return a.items()\n", "L23"),

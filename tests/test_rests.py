@@ -6,21 +6,11 @@ from floorways.floors import Floor
 from floorways.rests import rested
 from floorways.seeks import Found, Shut
 from floorways.ways import walked
-from plain import GREAT, Telling, book_of, held, is_left_alone, parts, plain_answer, some_cases
+from plain import GREAT, Telling, book_of, held, parts, plain_rested, some_cases
 
 
 def rest_cases(seed, many):
     return [case[:-1] for case in some_cases(seed, many)]
-
-
-def plain_rested(floor, carrier, ways, number, begin, start, charge):
-    def resting(time, layer):
-        for cell in floor.cells():
-            if (0, cell) in layer and is_left_alone(ways, number, cell, time):
-                return (0, cell)
-        return None
-
-    return plain_answer(floor, carrier, ways, number, begin, start, charge, [], resting)
 
 
 class TestRested(Telling):

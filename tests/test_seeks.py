@@ -7,24 +7,13 @@ from floorways.floors import Floor
 from floorways.layers import stops_met
 from floorways.seeks import Found, Shut, sought
 from floorways.ways import walked
-from plain import GREAT, Telling, book_of, held, is_left_alone, parts, plain_answer, some_cases
+from plain import GREAT, Telling, book_of, held, is_left_alone, parts, plain_sought, some_cases
 
 
 def leasts(cases):
     """The same cases with some least charge behind each."""
     for index, case in enumerate(cases):
         yield case + ((0, 0, 2, case[1].full - 1)[index % 7 % 4],)
-
-
-def plain_sought(floor, carrier, ways, number, begin, start, charge, stops, least):
-    goal = (len(stops), stops[-1])
-
-    def there(time, layer):
-        if layer.get(goal, -1) >= least and is_left_alone(ways, number, stops[-1], time):
-            return goal
-        return None
-
-    return plain_answer(floor, carrier, ways, number, begin, start, charge, stops, there)
 
 
 def earliest(floor, carrier, ways, number, begin, start, charge, stops, least, ticks):

@@ -146,4 +146,4 @@ def is_line(words, numbers):
 def row_of(word, numbers):
     if not numbers:
         return ""
-    return "".join([" " + part for part in [word] + [number_text(number) for number in numbers]])
+    return " ".join(["", word] + [number_text(number) for number in numbers])

@@ -1,13 +1,25 @@
 """From lines to answers, tick by tick: what [1] promises over the whole program, seen by the answers alone."""
 
+import copy
 import itertools
 import random
 import re
 import unittest
 
+from floorways.carriers import Crawler
+from floorways.costs import cheapest, costs_to, needs_of
+from floorways.errors import Closed
 from floorways.floors import Floor
 from floorways.halls import Hall
-from plain import FLOORS, KINDS, plain_tick
+from floorways.heaps import Heap
+from floorways.layers import first_layer, next_layer
+from floorways.meets import meetings
+from floorways.rests import rested
+from floorways.seeks import sought
+from floorways.tasks import Desk
+from floorways.turns import cleared
+from floorways.ways import walked
+from plain import FLOORS, KINDS, book_of, fleet_of, held, picture, plain_tick
 
 NICHES = ["+......", "##.#.##"]
 HALLS = FLOORS + (
@@ -139,8 +151,8 @@ class TestTickByTick(unittest.TestCase):
             for word, many in watcher.seen.items():
                 seen[word] = seen.get(word, 0) + many
         for word in (
-                "there at N", "there at N turned N", "there at N turned N N", "jammed N", "closed", "busy", "taken",
-                "going N till N", "done N at N", "waiting", "at N charge N busy"):
+                "there at N", "there at N turned N", "jammed N", "closed", "busy", "taken", "going N till N",
+                "done N at N", "waiting", "at N charge N busy"):
             self.assertGreater(seen.get(word, 0), 0, word)
 
     def test_a_hall_by_hand(self):
@@ -158,6 +170,96 @@ class TestTickByTick(unittest.TestCase):
             ("where 2", "at 11 charge 0 idle"), ("pass 4", "time 13"), ("where 0", "at 6 charge 14 idle"))
         for line, answer in rows:
             self.assertEqual((line, hall.answer(line)), (line, answer))
+
+
+def shut_layer(call, *given):
+    try:
+        call(*given)
+    except Closed as refusal:
+        return refusal.shut.layer
+    return None
+
+
+def spoil(told):
+    told.clear()
+    if isinstance(told, list):
+        told.append((7, 7))
+    else:
+        told[(7, 7)] = 7
+
+
+class TestToldAndHandedIn(unittest.TestCase):
+    def setUp(self):
+        self.floor = Floor(["+.~.+", "##|#."])
+        self.book = book_of({0: (0, (0, 1)), 3: (2, (4,))})
+        self.fleet = fleet_of(["+..#+"], ("cart", 20, 0, 20), ("cart", 20, 1, 9))
+        self.desk = Desk(self.fleet)
+        self.desk.tell(0, 4)
+        self.hall = Hall(["+..#+"])
+        self.heap = Heap()
+        for thing in ((3, 1), (2,), (7, 7, 7)):
+            self.heap.put(thing)
+
+    def calls(self):
+        crawler, layer = Crawler(20), {(0, 7): 5}
+        asked = (self.floor, crawler, self.book, 1)
+        return (
+            self.floor.cells, self.floor.chargers, lambda: self.floor.beside(2), self.heap.lying, self.book.numbers,
+            lambda: crawler.steps(self.floor, 2), lambda: costs_to(self.floor, crawler, [0]),
+            lambda: needs_of(self.floor, crawler), lambda: cheapest(self.floor, crawler, 7, [0]),
+            lambda: walked(self.floor, crawler, (0, (7, 2)), 9), lambda: meetings({1: (0, (2,)), 0: (0, (2,))}),
+            lambda: first_layer([7], 7, 5), lambda: next_layer(*asked, [0], 0, layer),
+            lambda: sought(*asked, 0, 7, 5, [0], 30).layer, lambda: rested(*asked, 2, 4, 0).layer,
+            self.fleet.numbers, lambda: self.fleet.sees(0, [4]).layer, lambda: shut_layer(self.fleet.send, 0, [4]),
+            lambda: shut_layer(cleared, self.fleet, 0, [4]), lambda: self.desk.why(0), self.desk.settle,
+            self.hall.floor_lines)
+
+    def test_what_is_told_is_the_askers_own(self):
+        for call in self.calls():
+            told = call()
+            kept = copy.deepcopy(told)
+            self.assertIn(type(told), (list, dict))
+            spoil(told)
+            self.assertEqual(call(), kept)
+
+    def test_nothing_that_is_asked_later_changes_what_was_told(self):
+        told = [call() for call in self.calls()]
+        kept = copy.deepcopy(told)
+        for call in self.calls():
+            spoil(call())
+        self.heap.take()
+        self.book.drop(0)
+        self.fleet.add("cart", 20, 4, 20)
+        self.fleet.pass_time(9)
+        cleared(self.fleet, 0, [1])
+        self.desk.go_on(5)
+        self.assertEqual(told, kept)
+
+    def test_asking_changes_nothing(self):
+        before = (picture(self.fleet), held(self.book), self.heap.lying(), self.desk.state(0), self.hall.answer("show"))
+        for call in self.calls():
+            call()
+        after = (picture(self.fleet), held(self.book), self.heap.lying(), self.desk.state(0), self.hall.answer("show"))
+        self.assertEqual(before, after)
+
+    def test_what_is_handed_in_is_not_changed(self):
+        lines, stops, goals, ways, layer = ["+....", "##.##"], [4, 3], [4, 0], {0: (0, (2,)), 1: (0, (2,))}, {(0, 0): 9}
+        given = (lines, stops, goals, ways, layer)
+        kept = copy.deepcopy(given)
+        fleet = fleet_of(lines, ("cart", 20, 0, 20), ("cart", 20, 2, 9))
+        cart = fleet.carrier(0)
+        costs_to(fleet.floor, cart, goals)
+        cheapest(fleet.floor, cart, 2, goals)
+        meetings(ways)
+        first_layer(stops, 0, 9)
+        next_layer(fleet.floor, cart, fleet.book(), 0, stops, 0, layer)
+        sought(fleet.floor, cart, fleet.book(), 0, 0, 0, 20, stops)
+        fleet.sees(0, stops)
+        cleared(fleet, 0, stops)
+        fleet.pass_time(5)
+        fleet.send(0, stops)
+        Hall(lines).answer("settle")
+        self.assertEqual(given, kept)
 
 
 if __name__ == "__main__":
